@@ -1,0 +1,1 @@
+"""Hooked cords: rows of hooks, exchanges, cuts and joins, and the figures that come of them."""

@@ -1,0 +1,99 @@
+"""Checks of arguments that many functions share, with the errors that the interface tells."""
+
+from hookedcords.errors import BadCords, BadFamily, BadFigure, BadNumber, BadRow
+
+MOST_CORDS = 5
+MOST_DEEDS = 40
+WORDS = ("cut", "hook", "join", "swap")
+
+
+def is_from(value, least):
+    """Whether value is an integer from least on; True and False are none."""
+    return type(value) is int and value >= least
+
+
+def is_between(value, least, most):
+    """Whether value is an integer from least to most; True and False are none."""
+    return type(value) is int and least <= value <= most
+
+
+def need_number(value, least, most):
+    """BadNumber(value) of what is no integer from least to most."""
+    if not is_between(value, least, most):
+        raise BadNumber(value)
+
+
+def need_cords(cords):
+    """BadCords(cords) of what is no number of cords."""
+    if not is_between(cords, 1, MOST_CORDS):
+        raise BadCords(cords)
+
+
+def wrong_point(figure):
+    """The first point of a tuple whose thing can be no number of its piece, None if there is none."""
+    fresh = 0
+    for point, piece in enumerate(figure):
+        if not is_between(piece, 0, fresh):
+            return point
+        if piece == fresh:
+            fresh = fresh + 1
+    return None
+
+
+def is_figure(cords, value):
+    """Whether value, of any kind, is a figure of so many cords."""
+    return type(value) is tuple and len(value) == 2 * cords and wrong_point(value) is None
+
+
+def need_figure(cords, figure):
+    """BadFigure of what is no figure; cords may be more than 5 here."""
+    if type(figure) is not tuple or len(figure) != 2 * cords:
+        raise BadFigure(None)
+    point = wrong_point(figure)
+    if point is not None:
+        raise BadFigure(point)
+
+
+def places_for(cords, word):
+    """At how many places a deed with this word may be done."""
+    if word == "cut":
+        return cords
+    return cords - 1
+
+
+def is_deed(cords, value):
+    """Whether value, of any kind, is a deed on so many cords."""
+    if type(value) is not tuple or len(value) != 2:
+        return False
+    word, place = value
+    if type(word) is not str or word not in WORDS:
+        return False
+    return is_between(place, 0, places_for(cords, word) - 1)
+
+
+def need_row(cords, row):
+    """BadRow of what is no row."""
+    if type(row) is not tuple or len(row) > MOST_DEEDS:
+        raise BadRow(None)
+    for number, deed in enumerate(row):
+        if not is_deed(cords, deed):
+            raise BadRow(number)
+
+
+def need_family(family):
+    """BadFamily of what is no family."""
+    if type(family) is not tuple or len(family) == 0:
+        raise BadFamily(None)
+    ahead = ""
+    for number, word in enumerate(family):
+        if type(word) is not str or word not in WORDS or word <= ahead:
+            raise BadFamily(number)
+        ahead = word
+
+
+def need_family_row(cords, family, row):
+    """BadRow of what is no row, then of a row with a deed whose word is none of the family's."""
+    need_row(cords, row)
+    for number, deed in enumerate(row):
+        if deed[0] not in family:
+            raise BadRow(number)

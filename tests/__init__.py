@@ -1,0 +1,1 @@
+"""Tests of hookedcords, for python3 -m unittest."""

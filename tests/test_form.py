@@ -1,0 +1,230 @@
+"""The form of the package: where the interface's names are defined, and the plainer rules of the language."""
+
+import ast
+import builtins
+import importlib
+import inspect
+import os
+import unittest
+
+HERE = os.path.dirname(os.path.dirname(os.path.abspath(__file__)))
+PACKAGE = os.path.join(HERE, "hookedcords")
+LIBRARY = {"itertools": {"combinations"}}
+BUILTINS = set(
+    "len range enumerate zip min max sum abs sorted reversed int str bool list tuple dict set isinstance any all "
+    "divmod type ValueError".split()
+)
+METHODS = set("append extend pop add setdefault items get index count".split())
+
+INTERFACE = {
+    "errors": {},
+    "figures": {
+        "straight": "cords", "pieces_of": "cords figure", "figure_of_pieces": "cords parted",
+        "kinds_of": "cords figure", "rank_of": "cords figure", "hangs": "cords figure point far_point",
+        "upon": "cords figure other", "left_over": "cords figure other", "turned_over": "cords figure",
+        "mirrored": "cords figure",
+    },
+    "pieces": {
+        "is_finer": "cords figure other", "both_of": "cords figure other", "either_of": "cords figure other",
+        "finer_count": "cords figure", "coarser_count": "cords figure", "beside": "cords figure far_cords other",
+        "apart_at": "cords figure", "parts_of": "cords figure",
+    },
+    "rows": {
+        "deeds_of": "cords", "deed_figure": "cords deed", "figure_of": "cords row", "leftovers_of": "cords row",
+        "figures_on_way": "cords row", "leftovers_on_way": "cords row", "are_alike": "cords row far_row",
+        "are_alike_to_last": "cords row far_row", "row_over": "cords row", "row_mirrored": "cords row",
+        "first_together": "cords row place far_place",
+    },
+    "families": {
+        "all_families": "", "family_deeds": "cords family", "has_figure": "cords family figure",
+        "fault": "cords family figure", "is_fault": "cords family figure value", "words_of": "cords row",
+        "families_with": "cords figure", "least_families": "cords figure", "first_family": "cords figure",
+        "holds_family": "cords family other", "same_families": "cords family",
+    },
+    "numbered": {
+        "figure_count": "cords family", "figures_of": "cords family", "figure_number": "cords family figure",
+        "figure_at": "cords family number", "next_figure": "cords family figure", "rank_counts": "cords family",
+        "piece_counts": "cords family", "figures_of_rank": "cords family number",
+        "both_figures": "cords family other", "family_of_both": "cords family other",
+    },
+    "least": {
+        "Ladder": "cords family", "Ladder.length_of": "figure", "Ladder.least_row": "figure",
+        "Ladder.many_shortest": "figure", "Ladder.shortest_at": "figure number", "Ladder.number_of": "row",
+        "Ladder.of_length": "number", "Ladder.by_length": "", "Ladder.farthest": "",
+        "fewest": "cords family figure", "least_row": "cords family figure", "is_shortest": "cords family row",
+        "how_far": "cords family figure other", "way": "cords family figure other",
+        "by_distance": "cords family figure",
+    },
+    "lengths": {
+        "length_by_looks": "cords family figure", "greatest_by_looks": "cords family", "doubled": "cords figure",
+        "halved": "cords figure",
+    },
+    "leaving": {
+        "fewest_leaving": "cords family figure number", "row_leaving": "cords family figure number",
+        "leaving_lengths": "cords family figure", "can_leave": "cords family figure",
+    },
+    "factors": {
+        "crown_of": "cords figure", "base_of": "cords figure", "leads_down": "cords family figure other",
+        "leads_up": "cords family figure other", "leads_on": "cords family figure other",
+        "row_down": "cords family figure other", "row_up": "cords family figure other",
+        "how_many_down": "cords family figure other", "how_many_up": "cords family figure other",
+        "factor_down": "cords family figure other number", "factor_up": "cords family figure other number",
+        "rows_on": "cords family figure other", "on_paper": "cords family figure other",
+        "check_on": "cords family figure other paper",
+    },
+}
+
+
+def files():
+    return sorted(name for name in os.listdir(PACKAGE) if name != "__pycache__")
+
+
+def text_of(name):
+    with open(os.path.join(PACKAGE, name), encoding="utf-8") as source:
+        return source.read()
+
+
+def trees():
+    return [(name, ast.parse(text_of(name))) for name in files()]
+
+
+class Interface(unittest.TestCase):
+    def test_names_stand_in_their_files_with_their_parameters(self):
+        for module, names in INTERFACE.items():
+            loaded = importlib.import_module("hookedcords." + module)
+            for name, parameters in names.items():
+                found = loaded
+                for part in name.split("."):
+                    found = vars(found)[part]
+                self.assertEqual(found.__module__, "hookedcords." + module, name)
+                told = inspect.signature(found).parameters.values()
+                self.assertEqual([one.name for one in told if one.name != "self"], parameters.split(), name)
+                self.assertTrue(all(one.kind is one.POSITIONAL_OR_KEYWORD for one in told), name)
+
+    def test_each_interface_function_has_a_place_in_the_table(self):
+        # A module's further functions are helpers; none of them may shadow an interface name elsewhere.
+        seen = {}
+        for module, names in INTERFACE.items():
+            for name in names:
+                if "." not in name:
+                    self.assertNotIn(name, seen)
+                    seen[name] = module
+        for name, tree in trees():
+            for one in tree.body:
+                if isinstance(one, (ast.FunctionDef, ast.ClassDef)) and one.name in seen:
+                    self.assertEqual(seen[one.name] + ".py", name)
+
+
+class Form(unittest.TestCase):
+    def test_the_folder_holds_plain_python_files_alone(self):
+        for name in files():
+            self.assertRegex(name, r"^[a-z0-9_]+\.py$")
+
+    def test_sizes_and_characters(self):
+        for name in files():
+            text = text_of(name)
+            self.assertLessEqual(len(text.split("\n")) - 1, 399, name)
+            for line in text.split("\n"):
+                self.assertLessEqual(len(line), 120, (name, line))
+            self.assertTrue(all(" " <= sign <= "~" or sign == "\n" for sign in text), name)
+
+    def test_functions_are_small_and_plain(self):
+        for name, tree in trees():
+            for one in ast.walk(tree):
+                if isinstance(one, ast.FunctionDef):
+                    self.assertLessEqual(one.end_lineno - one.lineno + 1, 40, (name, one.name))
+                    self.assertEqual(one.decorator_list, [], (name, one.name))
+                    self.assertIsNotNone(ast.get_docstring(one) or one.name == "__init__", (name, one.name))
+                    self.assertTrue(ast.get_docstring(one) or one.name == "__init__", (name, one.name))
+
+    def test_imports_are_from_the_defining_file(self):
+        for name, tree in trees():
+            for one in ast.walk(tree):
+                self.assertNotIsInstance(one, ast.Import, name)
+                if isinstance(one, ast.ImportFrom):
+                    self.assertIn(one, tree.body, name)
+                    self.assertEqual(one.level, 0)
+                    for alias in one.names:
+                        self.assertIsNone(alias.asname)
+                        self.check_import(name, one.module, alias.name)
+
+    def check_import(self, name, module, word):
+        if module in LIBRARY:
+            self.assertIn(word, LIBRARY[module], name)
+            return
+        self.assertTrue(module.startswith("hookedcords."), (name, module))
+        tree = ast.parse(text_of(module.split(".")[1] + ".py"))
+        told = [one.name for one in tree.body if isinstance(one, (ast.FunctionDef, ast.ClassDef))]
+        for one in tree.body:
+            if isinstance(one, ast.Assign):
+                told.extend(target.id for target in one.targets)
+        self.assertIn(word, told, (name, module))
+
+    def test_imported_names_are_used_and_bound_to_nothing_else(self):
+        for name, tree in trees():
+            imported = [one.name for part in tree.body if isinstance(part, ast.ImportFrom) for one in part.names]
+            self.assertEqual(len(imported), len(set(imported)), name)
+            read = {one.id for one in ast.walk(tree) if isinstance(one, ast.Name) and isinstance(one.ctx, ast.Load)}
+            bound = {one.id for one in ast.walk(tree) if isinstance(one, ast.Name) and isinstance(one.ctx, ast.Store)}
+            bound |= {one.arg for one in ast.walk(tree) if isinstance(one, ast.arg)}
+            bound |= {one.name for one in ast.walk(tree) if isinstance(one, (ast.FunctionDef, ast.ClassDef))}
+            self.assertLessEqual(set(imported), read, name)
+            self.assertEqual(set(imported) & bound, set(), name)
+            self.assertEqual(bound & set(dir(builtins)), set(), name)
+
+    def test_no_file_imports_itself_in_a_circle(self):
+        near = {
+            name[:-3]: {one.module.split(".")[1] for one in tree.body
+                        if isinstance(one, ast.ImportFrom) and one.module.startswith("hookedcords.")}
+            for name, tree in trees()
+        }
+        while near:
+            free = [name for name, others in near.items() if not others & set(near)]
+            self.assertTrue(free, near)
+            for name in free:
+                del near[name]
+
+    def test_statements_and_calls_are_of_the_subset(self):
+        banned = (
+            ast.AsyncFunctionDef, ast.Global, ast.Nonlocal, ast.Lambda, ast.GeneratorExp, ast.Try, ast.With,
+            ast.Yield, ast.YieldFrom, ast.Div, ast.JoinedStr, ast.NamedExpr, ast.Starred, ast.Delete, ast.Assert,
+        )
+        for name, tree in trees():
+            own = {one.name for one in ast.walk(tree) if isinstance(one, (ast.FunctionDef, ast.ClassDef))}
+            own |= {one.name for part in tree.body if isinstance(part, ast.ImportFrom) for one in part.names}
+            for one in ast.walk(tree):
+                self.assertNotIsInstance(one, banned, (name, getattr(one, "lineno", None)))
+                if isinstance(one, ast.Call) and isinstance(one.func, ast.Name):
+                    self.assertIn(one.func.id, BUILTINS | own, (name, one.lineno))
+                    self.assertEqual(one.keywords, [], (name, one.lineno))
+                if isinstance(one, ast.Call) and isinstance(one.func, ast.Attribute):
+                    self.assertIn(one.func.attr, METHODS | own, (name, one.lineno))
+                if isinstance(one, ast.Constant):
+                    self.assertNotIsInstance(one.value, (float, bytes), (name, one.lineno))
+                    self.assertNotIn("%", str(one.value), (name, one.lineno))
+                if isinstance(one, ast.Compare) and any(isinstance(sign, (ast.Is, ast.IsNot)) for sign in one.ops):
+                    told = one.comparators[0]
+                    plain = isinstance(told, ast.Constant) and told.value in (None, True, False)
+                    self.assertTrue(plain or self.asks_kind(one), (name, one.lineno))
+
+    def asks_kind(self, one):
+        left = one.left
+        return isinstance(left, ast.Call) and isinstance(left.func, ast.Name) and left.func.id == "type"
+
+    def test_sets_are_local_and_never_gone_through(self):
+        for name, tree in trees():
+            for one in ast.walk(tree):
+                if isinstance(one, (ast.For, ast.comprehension)):
+                    self.assertNotIsInstance(one.iter, (ast.Set, ast.SetComp), name)
+                    told = isinstance(one.iter, ast.Call) and isinstance(one.iter.func, ast.Name)
+                    self.assertFalse(told and one.iter.func.id == "set", name)
+
+    def test_module_level_holds_plain_things_alone(self):
+        allowed = (ast.Expr, ast.ImportFrom, ast.FunctionDef, ast.ClassDef, ast.Assign)
+        for name, tree in trees():
+            for at, one in enumerate(tree.body):
+                self.assertIsInstance(one, allowed, name)
+                if isinstance(one, ast.Expr):
+                    self.assertEqual(at, 0, name)
+                if isinstance(one, ast.Assign):
+                    ast.literal_eval(one.value)
