@@ -54,6 +54,13 @@ def need_figure(cords, figure):
         raise BadFigure(point)
 
 
+def need_two_figures(cords, figure, other):
+    """The errors of a number of cords and of two figures of so many."""
+    need_cords(cords)
+    need_figure(cords, figure)
+    need_figure(cords, other)
+
+
 def places_for(cords, word):
     """At how many places a deed with this word may be done."""
     if word == "cut":
@@ -89,6 +96,13 @@ def need_family(family):
         if type(word) is not str or word not in WORDS or word <= ahead:
             raise BadFamily(number)
         ahead = word
+
+
+def need_family_figure(cords, family, figure):
+    """The errors of a number of cords, a family and a figure, be it of the family or not."""
+    need_cords(cords)
+    need_family(family)
+    need_figure(cords, figure)
 
 
 def need_family_row(cords, family, row):

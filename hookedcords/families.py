@@ -1,6 +1,6 @@
 """The fifteen families, by the words of their deeds, and which figures they have."""
 
-from hookedcords.checks import need_cords, need_family, need_figure, need_row
+from hookedcords.checks import need_cords, need_family, need_family_figure, need_figure, need_row
 from hookedcords.faults import first_fault, is_fault_told, is_of_family
 from hookedcords.putting import deeds_with, figure_of_deed
 
@@ -26,13 +26,6 @@ FAMILIES = (
 def all_families():
     """The ascending tuple of the fifteen families."""
     return FAMILIES
-
-
-def need_family_figure(cords, family, figure):
-    """The errors of a number of cords, a family and a figure, be it of the family or not."""
-    need_cords(cords)
-    need_family(family)
-    need_figure(cords, figure)
 
 
 def family_deeds(cords, family):

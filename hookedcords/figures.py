@@ -1,6 +1,6 @@
 """Figures: their pieces, and what comes of them when put upon, turned over, mirrored."""
 
-from hookedcords.checks import is_between, need_cords, need_figure, need_number
+from hookedcords.checks import is_between, need_cords, need_figure, need_number, need_two_figures
 from hookedcords.errors import BadFigure
 from hookedcords.putting import (
     points_by_piece, put_together, put_upon, renumbered, straight_figure, turned_figure,
@@ -79,17 +79,13 @@ def hangs(cords, figure, point, far_point):
 
 def upon(cords, figure, other):
     """The figure upon the other one."""
-    need_cords(cords)
-    need_figure(cords, figure)
-    need_figure(cords, other)
+    need_two_figures(cords, figure, other)
     return put_upon(cords, figure, other)
 
 
 def left_over(cords, figure, other):
     """How many pieces are left over when the figure is put upon the other one."""
-    need_cords(cords)
-    need_figure(cords, figure)
-    need_figure(cords, other)
+    need_two_figures(cords, figure, other)
     return put_together(cords, figure, other)[1]
 
 

@@ -1,7 +1,7 @@
 """Fewest deeds: lengths of figures, their shortest rows, and how far it is between figures."""
 
 from hookedcords.checks import (
-    is_from, need_cords, need_family, need_family_row, need_figure, need_number,
+    is_from, need_cords, need_family, need_family_figure, need_family_row, need_figure, need_number,
 )
 from hookedcords.errors import BadFigure, BadNumber
 from hookedcords.faults import need_of_family
@@ -122,9 +122,7 @@ class Ladder:
 
 def ladder_for(cords, family, figure):
     """The ladder of the family, behind the errors of the figure."""
-    need_cords(cords)
-    need_family(family)
-    need_figure(cords, figure)
+    need_family_figure(cords, family, figure)
     need_of_family(cords, family, figure)
     return Ladder(cords, family)
 
@@ -150,9 +148,7 @@ def is_shortest(cords, family, row):
 
 def way(cords, family, figure, other):
     """The least of the shortest rows by which the family leads from the figure to the other one, or None."""
-    need_cords(cords)
-    need_family(family)
-    need_figure(cords, figure)
+    need_family_figure(cords, family, figure)
     need_figure(cords, other)
     before = walk(cords, family, figure)[1]
     if other not in before:
@@ -170,8 +166,6 @@ def how_far(cords, family, figure, other):
 
 def by_distance(cords, family, figure):
     """How many figures are 0, 1 and so on deeds from the figure, to the farthest that are reached."""
-    need_cords(cords)
-    need_family(family)
-    need_figure(cords, figure)
+    need_family_figure(cords, family, figure)
     layers = walk(cords, family, figure)[0]
     return tuple([len(layer) for layer in layers])

@@ -1,6 +1,6 @@
 """Rows that leave just so many pieces over."""
 
-from hookedcords.checks import need_cords, need_family, need_figure, need_number
+from hookedcords.checks import need_family_figure, need_number
 from hookedcords.faults import need_of_family
 from hookedcords.putting import put_together, put_upon, straight_figure
 from hookedcords.sizes import need_few
@@ -52,9 +52,7 @@ def leaving_walk(cords, family):
 
 def row_leaving(cords, family, figure, number):
     """The least of the shortest rows of the figure that leave just so many pieces, None if there is none."""
-    need_cords(cords)
-    need_family(family)
-    need_figure(cords, figure)
+    need_family_figure(cords, family, figure)
     need_number(number, 0, MOST_LEFT)
     need_few_with(cords, family, figure)
     before = leaving_walk(cords, family)
@@ -73,9 +71,7 @@ def fewest_leaving(cords, family, figure, number):
 
 def leaving_lengths(cords, family, figure):
     """The fewest deeds of rows of the figure that leave 0, 1, .., 12 pieces, each None if there is none."""
-    need_cords(cords)
-    need_family(family)
-    need_figure(cords, figure)
+    need_family_figure(cords, family, figure)
     need_few_with(cords, family, figure)
     before = leaving_walk(cords, family)
     lengths = []
@@ -89,9 +85,7 @@ def leaving_lengths(cords, family, figure):
 
 def can_leave(cords, family, figure):
     """Whether some row of the figure has a cut or a hook."""
-    need_cords(cords)
-    need_family(family)
-    need_figure(cords, figure)
+    need_family_figure(cords, family, figure)
     need_few_with(cords, family, figure)
     shapes = shapes_of(cords, family)
     loose = shapes_of(cords, [word for word in family if word in ("cut", "hook")])

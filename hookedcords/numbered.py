@@ -1,6 +1,6 @@
 """The figures of a family in their order, their numbers, and how many there are of each kind."""
 
-from hookedcords.checks import need_cords, need_family, need_figure, need_number
+from hookedcords.checks import need_cords, need_family, need_family_figure, need_number
 from hookedcords.families import FAMILIES
 from hookedcords.faults import is_of_family, need_of_family
 from hookedcords.figures import rank_of
@@ -25,9 +25,7 @@ def figures_of(cords, family):
 
 def figure_number(cords, family, figure):
     """How many figures of the family are less than the figure, which is one of them."""
-    need_cords(cords)
-    need_family(family)
-    need_figure(cords, figure)
+    need_family_figure(cords, family, figure)
     need_of_family(cords, family, figure)
     return figures_of(cords, family).index(figure)
 
@@ -40,9 +38,7 @@ def figure_at(cords, family, number):
 
 def next_figure(cords, family, figure):
     """The first figure of the family that is greater than any figure, None if none is."""
-    need_cords(cords)
-    need_family(family)
-    need_figure(cords, figure)
+    need_family_figure(cords, family, figure)
     for one in figures_of(cords, family):
         if one > figure:
             return one

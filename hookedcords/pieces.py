@@ -1,18 +1,11 @@
 """Figures compared and set side by side: finer ones, both and either of two, parts."""
 
-from hookedcords.checks import MOST_CORDS, is_between, need_cords, need_figure
+from hookedcords.checks import MOST_CORDS, is_between, need_cords, need_figure, need_two_figures
 from hookedcords.errors import BadCords
 from hookedcords.putting import merged, points_by_piece, renumbered
 
 # The number of ways of parting 0, 1, .. 10 things: five cords have ten points.
 WAYS_OF_PARTING = (1, 1, 2, 5, 15, 52, 203, 877, 4140, 21147, 115975)
-
-
-def need_two(cords, figure, other):
-    """The errors of a number of cords and two figures of so many."""
-    need_cords(cords)
-    need_figure(cords, figure)
-    need_figure(cords, other)
 
 
 def is_finer(cords, figure, other):
@@ -22,13 +15,13 @@ def is_finer(cords, figure, other):
 
 def both_of(cords, figure, other):
     """The figure by which two points hang together if they do by the one and by the other."""
-    need_two(cords, figure, other)
+    need_two_figures(cords, figure, other)
     return renumbered(list(zip(figure, other)))
 
 
 def either_of(cords, figure, other):
     """The finest figure than which both are finer."""
-    need_two(cords, figure, other)
+    need_two_figures(cords, figure, other)
     labels = list(figure)
     for points in points_by_piece(other):
         for point in points:

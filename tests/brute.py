@@ -200,3 +200,11 @@ def rows_up_to(cords, family, most):
     deeds = deeds_of(cords, family)
     for many in range(most + 1):
         yield from itertools.product(deeds, repeat=many)
+
+
+def told_of(call, *values):
+    """What a call returns or the error that it raises, with its fields."""
+    try:
+        return call(*values)
+    except ValueError as error:
+        return type(error), tuple(vars(error).values())

@@ -7,7 +7,11 @@ import unittest
 from hookedcords.errors import (
     BadCords, BadFamily, BadFigure, BadNumber, BadPaper, BadRow, HookError,
 )
+from hookedcords.factors import check_on
+from hookedcords.families import family_deeds
+from hookedcords.figures import rank_of, straight
 from hookedcords.least import Ladder
+from hookedcords.rows import figure_of
 from tests.test_form import INTERFACE
 
 CALLS = [
@@ -136,6 +140,24 @@ class Arguments(unittest.TestCase):
         ladder = Ladder(2, ("hook",))
         for name, parameters in METHODS:
             self.check_call(name, getattr(ladder, name), parameters)
+
+    def test_things_that_say_to_be_equal_to_all(self):
+        class Equal:
+            def __eq__(self, other):
+                return True
+
+        one = Equal()
+        calls = [
+            (figure_of, (2, ((one, 0),)), (BadRow, 0)), (figure_of, (2, (("cut", one),)), (BadRow, 0)),
+            (figure_of, (2, (one,)), (BadRow, 0)), (figure_of, (2, one), (BadRow, None)),
+            (family_deeds, (2, (one,)), (BadFamily, 0)), (family_deeds, (2, one), (BadFamily, None)),
+            (straight, (one,), (BadCords, one)), (rank_of, (1, (one, one)), (BadFigure, 0)),
+            (check_on, (1, ("cut",), (0, 0), (0, 0), (one, (), ())), (BadPaper, "form")),
+            (check_on, (1, ("cut",), (0, 0), (0, 0), ("rows", (one,), ())), (BadPaper, "rows")),
+            (check_on, (1, ("cut",), (0, 0), (0, 1), ("closed", (one,))), (BadPaper, "closed")),
+        ]
+        for call, values, expected in calls:
+            self.check_refused(call, list(values), expected)
 
     def test_all_wrong_at_once(self):
         for module, name, parameters in CALLS:

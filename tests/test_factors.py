@@ -9,18 +9,11 @@ from hookedcords.factors import (
     on_paper, row_down, row_up, rows_on,
 )
 from tests import brute
+from tests.brute import told_of
 
 STRAIGHT = (0, 1, 2, 3, 4) * 2
 CROSSED = (0, 1, 2, 3, 4, 1, 0, 2, 3, 4)
 WITH_TWO = (leads_down, leads_up, leads_on, row_down, row_up, how_many_down, how_many_up, rows_on, on_paper)
-
-
-def told_of(call, *values):
-    """What a call returns or the error that it raises, with its fields."""
-    try:
-        return call(*values)
-    except ValueError as error:
-        return type(error), tuple(vars(error).values())
 
 
 def figures_of(cords, family):

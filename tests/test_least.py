@@ -6,6 +6,7 @@ import unittest
 from hookedcords.errors import BadFamily, BadFigure, BadNumber, BadRow, TooGreat
 from hookedcords.least import Ladder, by_distance, fewest, how_far, is_shortest, least_row, way
 from tests import brute
+from tests.brute import told_of
 
 # Families small enough that all rows up to the greatest length are gone through.
 SMALL = [(2, family) for family in brute.FAMILIES] + [(1, family) for family in brute.FAMILIES] + [
@@ -29,14 +30,6 @@ def shortest_rows(cords, family):
         if len(found) == many and len(row) > max(len(rows[0]) for rows in found.values()):
             return found
     return found
-
-
-def told_of(call, *values):
-    """What a call returns or the error that it raises, with its fields."""
-    try:
-        return call(*values)
-    except ValueError as error:
-        return type(error), tuple(vars(error).values())
 
 
 class Shortest(unittest.TestCase):

@@ -5,17 +5,10 @@ import unittest
 from hookedcords.errors import BadCords, BadFamily, BadFigure, BadNumber, TooGreat
 from hookedcords.leaving import can_leave, fewest_leaving, leaving_lengths, row_leaving
 from tests import brute
+from tests.brute import told_of
 
 SMALL = [(1, family) for family in brute.FAMILIES] + [(2, family) for family in brute.FAMILIES] + [
     (3, ("hook",)), (3, ("cut",)), (3, ("swap",)), (3, ("join", "swap")), (3, ("hook", "join")), (3, ("cut", "hook"))]
-
-
-def told_of(call, *values):
-    """What a call returns or the error that it raises, with its fields."""
-    try:
-        return call(*values)
-    except ValueError as error:
-        return type(error), tuple(vars(error).values())
 
 
 def first_rows(cords, family, most):

@@ -5,6 +5,7 @@ import unittest
 from hookedcords.errors import BadCords, BadFamily, BadFigure
 from hookedcords.lengths import doubled, greatest_by_looks, halved, length_by_looks
 from tests import brute
+from tests.brute import told_of
 
 LOOKS = [("cut",), ("cut", "join"), ("cut", "swap"), ("hook",), ("join",), ("swap",)]
 UNTOLD = [("cut", "hook", "join"), ("cut", "hook", "join", "swap"), ("cut", "join", "swap")]
@@ -12,14 +13,6 @@ UNTOLD = [("cut", "hook", "join"), ("cut", "hook", "join", "swap"), ("cut", "joi
 
 def flat_figures(cords):
     return [figure for figure in brute.all_figures(cords) if brute.is_flat(cords, figure)]
-
-
-def told_of(call, *values):
-    """What a call returns or the error that it raises, with its fields."""
-    try:
-        return call(*values)
-    except ValueError as error:
-        return type(error), tuple(vars(error).values())
 
 
 class Lengths(unittest.TestCase):
