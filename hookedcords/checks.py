@@ -1,9 +1,10 @@
 """Checks of arguments that many functions share, with the errors that the interface tells."""
 
-from hookedcords.errors import BadCords, BadFamily, BadFigure, BadNumber, BadRow
+from hookedcords.errors import BadColours, BadCords, BadFamily, BadFigure, BadNumber, BadRow
 
 MOST_CORDS = 5
 MOST_DEEDS = 40
+MOST_QUANTITY = 1000000
 WORDS = ("cut", "hook", "join", "swap")
 
 
@@ -78,13 +79,23 @@ def is_deed(cords, value):
     return is_between(place, 0, places_for(cords, word) - 1)
 
 
+def is_tuple_of_at_most(value, most):
+    """Whether value, of any kind, is a tuple of at most so many things."""
+    return type(value) is tuple and len(value) <= most
+
+
 def need_row(cords, row):
     """BadRow of what is no row."""
-    if type(row) is not tuple or len(row) > MOST_DEEDS:
+    if not is_tuple_of_at_most(row, MOST_DEEDS):
         raise BadRow(None)
     for number, deed in enumerate(row):
         if not is_deed(cords, deed):
             raise BadRow(number)
+
+
+def is_row(cords, value):
+    """Whether value, of any kind, is a row."""
+    return is_tuple_of_at_most(value, MOST_DEEDS) and all([is_deed(cords, deed) for deed in value])
 
 
 def need_family(family):
@@ -111,3 +122,30 @@ def need_family_row(cords, family, row):
     for number, deed in enumerate(row):
         if deed[0] not in family:
             raise BadRow(number)
+
+
+def need_quantity(many):
+    """BadNumber(many) of what is no quantity of colours."""
+    need_number(many, 1, MOST_QUANTITY)
+
+
+def wrong_colour(many, colours):
+    """The first place of a tuple whose thing is none of so many colours, None if there is none."""
+    for place, colour in enumerate(colours):
+        if not is_between(colour, 0, many - 1):
+            return place
+    return None
+
+
+def is_colouring(cords, many, value):
+    """Whether value, of any kind, is a colouring."""
+    return type(value) is tuple and len(value) == cords and wrong_colour(many, value) is None
+
+
+def need_colouring(cords, many, colours):
+    """BadColours of what is no colouring."""
+    if type(colours) is not tuple or len(colours) != cords:
+        raise BadColours(None)
+    place = wrong_colour(many, colours)
+    if place is not None:
+        raise BadColours(place)

@@ -1,27 +1,13 @@
 """Division: which figure of a family leads to which, by what is put above and below."""
 
-from hookedcords.checks import is_deed, is_figure, is_from, need_cords, need_family, need_figure
+from hookedcords.checks import is_deed, is_figure, is_from, need_cords, need_figure
 from hookedcords.errors import BadNumber, BadPaper
-from hookedcords.faults import need_of_family
+from hookedcords.faults import need_with_own_figures
 from hookedcords.putting import figure_of_row, put_upon, turned_figure
 from hookedcords.sizes import need_few
-from hookedcords.walks import figures_in, row_to, shapes_of, walk
+from hookedcords.walks import figures_in, least_row_back, row_to, shapes_of, walk
 
 MOST_PAPER_DEEDS = 5000
-
-
-def need_of(cords, family, figure):
-    """BadFigure of what is no figure, then of a figure that isn't one of the family."""
-    need_figure(cords, figure)
-    need_of_family(cords, family, figure)
-
-
-def need_both(cords, family, figure, other):
-    """The errors that all functions here with a family and two figures have ahead of the others."""
-    need_cords(cords)
-    need_family(family)
-    need_of(cords, family, figure)
-    need_of(cords, family, other)
 
 
 def crown(cords, figure):
@@ -66,26 +52,26 @@ def base_of(cords, figure):
 
 def leads_down(cords, family, figure, other):
     """Whether other is figure upon some figure of the family."""
-    need_both(cords, family, figure, other)
+    need_with_own_figures(cords, family, figure, other)
     return is_led_down(cords, figure, other)
 
 
 def leads_up(cords, family, figure, other):
     """Whether other is some figure of the family upon figure."""
-    need_both(cords, family, figure, other)
+    need_with_own_figures(cords, family, figure, other)
     return is_led_up(cords, figure, other)
 
 
 def leads_on(cords, family, figure, other):
     """Whether other is X upon figure upon Y for some figures X and Y of the family."""
-    need_both(cords, family, figure, other)
+    need_with_own_figures(cords, family, figure, other)
     need_few(cords, family)
     return is_led_on(cords, family, figure, other)
 
 
 def row_down(cords, family, figure, other):
     """The least shortest tuple of deeds that makes other when put below figure, None if none does."""
-    need_both(cords, family, figure, other)
+    need_with_own_figures(cords, family, figure, other)
     need_few(cords, family)
     before = walk(cords, family, figure)[1]
     if other not in before:
@@ -103,19 +89,12 @@ def least_above(cords, before, ends):
 
     What is put above last stands first in the tuple, so the tuple is told from the ends on.
     """
-    row = []
-    steps = [step for end in ends for step in before[turned_figure(cords, end)]]
-    while steps:
-        least = min([deed for _, deed in steps])
-        nears = sorted({near for near, deed in steps if deed == least})
-        row.append(least)
-        steps = [step for near in nears for step in before[near]]
-    return tuple(row)
+    return least_row_back(before, [turned_figure(cords, end) for end in ends])
 
 
 def row_up(cords, family, figure, other):
     """The least shortest tuple of deeds that makes other when put above figure, None if none does."""
-    need_both(cords, family, figure, other)
+    need_with_own_figures(cords, family, figure, other)
     need_few(cords, family)
     before = walk_above(cords, family, figure)[1]
     if turned_figure(cords, other) not in before:
@@ -135,14 +114,14 @@ def factors_up(cords, family, figure, other):
 
 def how_many_down(cords, family, figure, other):
     """Upon how many figures of the family the figure is the other one."""
-    need_both(cords, family, figure, other)
+    need_with_own_figures(cords, family, figure, other)
     need_few(cords, family)
     return len(factors_down(cords, family, figure, other))
 
 
 def how_many_up(cords, family, figure, other):
     """How many figures of the family upon the figure are the other one."""
-    need_both(cords, family, figure, other)
+    need_with_own_figures(cords, family, figure, other)
     need_few(cords, family)
     return len(factors_up(cords, family, figure, other))
 
@@ -162,7 +141,7 @@ def one_at(found, number):
 
 def factor_down(cords, family, figure, other, number):
     """Of the figures of the family upon which the figure is the other one that with this number."""
-    need_both(cords, family, figure, other)
+    need_with_own_figures(cords, family, figure, other)
     need_from_nought(number)
     need_few(cords, family)
     return one_at(factors_down(cords, family, figure, other), number)
@@ -170,7 +149,7 @@ def factor_down(cords, family, figure, other, number):
 
 def factor_up(cords, family, figure, other, number):
     """Of the figures of the family which, put upon the figure, are the other one that with this number."""
-    need_both(cords, family, figure, other)
+    need_with_own_figures(cords, family, figure, other)
     need_from_nought(number)
     need_few(cords, family)
     return one_at(factors_up(cords, family, figure, other), number)
@@ -220,7 +199,7 @@ def rows_on(cords, family, figure, other):
 
     Of several that with the fewest deeds above, then the least ABOVE, then the least BELOW.
     """
-    need_both(cords, family, figure, other)
+    need_with_own_figures(cords, family, figure, other)
     need_few(cords, family)
     return least_rows_on(cords, family, figure, other)
 
@@ -241,7 +220,7 @@ def all_led_on(cords, family, figure):
 
 def on_paper(cords, family, figure, other):
     """A paper that shows whether figure leads on to other."""
-    need_both(cords, family, figure, other)
+    need_with_own_figures(cords, family, figure, other)
     need_few(cords, family)
     rows = least_rows_on(cords, family, figure, other)
     if rows is None:
@@ -294,7 +273,7 @@ def is_closed_paper(cords, family, figure, other, paper):
 
 def check_on(cords, family, figure, other, paper):
     """Whether the paper shows that figure leads on to other (True) or that it doesn't (False)."""
-    need_both(cords, family, figure, other)
+    need_with_own_figures(cords, family, figure, other)
     if not has_form(paper):
         raise BadPaper("form")
     if paper[0] == "rows":

@@ -2,7 +2,7 @@
 
 from itertools import combinations
 
-from hookedcords.checks import is_between
+from hookedcords.checks import is_between, is_figure, need_cords, need_family, need_figure
 from hookedcords.errors import BadFigure
 from hookedcords.putting import going_round, points_by_piece
 
@@ -93,6 +93,30 @@ def need_of_family(cords, family, figure):
     """BadFigure("family") of a figure that isn't one of the family."""
     if not is_of_family(cords, family, figure):
         raise BadFigure("family")
+
+
+def is_own_figure(cords, family, value):
+    """Whether value, of any kind, is a figure of the family."""
+    return is_figure(cords, value) and is_of_family(cords, family, value)
+
+
+def need_own_figure(cords, family, figure):
+    """BadFigure of what is no figure, then of a figure that isn't one of the family."""
+    need_figure(cords, figure)
+    need_of_family(cords, family, figure)
+
+
+def need_with_own_figure(cords, family, figure):
+    """The errors of a number of cords, a family and a figure, which is one of the family."""
+    need_cords(cords)
+    need_family(family)
+    need_own_figure(cords, family, figure)
+
+
+def need_with_own_figures(cords, family, figure, other):
+    """The errors of a number of cords, a family and two figures of it, the one whole ahead of the other."""
+    need_with_own_figure(cords, family, figure)
+    need_own_figure(cords, family, other)
 
 
 def are_places(cords, many, value):

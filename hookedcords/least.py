@@ -4,7 +4,7 @@ from hookedcords.checks import (
     is_from, need_cords, need_family, need_family_figure, need_family_row, need_figure, need_number,
 )
 from hookedcords.errors import BadFigure, BadNumber
-from hookedcords.faults import need_of_family
+from hookedcords.faults import need_with_own_figure
 from hookedcords.putting import figure_of_row, put_upon, straight_figure
 from hookedcords.sizes import need_few
 from hookedcords.walks import row_to, shapes_of, walk
@@ -122,8 +122,7 @@ class Ladder:
 
 def ladder_for(cords, family, figure):
     """The ladder of the family, behind the errors of the figure."""
-    need_family_figure(cords, family, figure)
-    need_of_family(cords, family, figure)
+    need_with_own_figure(cords, family, figure)
     return Ladder(cords, family)
 
 

@@ -2,7 +2,7 @@
 
 from hookedcords.checks import need_cords, need_family, need_family_figure, need_number
 from hookedcords.families import FAMILIES
-from hookedcords.faults import is_of_family, need_of_family
+from hookedcords.faults import is_of_family, need_with_own_figure
 from hookedcords.figures import rank_of
 from hookedcords.sizes import family_size, need_few
 from hookedcords.walks import figures_in
@@ -25,8 +25,7 @@ def figures_of(cords, family):
 
 def figure_number(cords, family, figure):
     """How many figures of the family are less than the figure, which is one of them."""
-    need_family_figure(cords, family, figure)
-    need_of_family(cords, family, figure)
+    need_with_own_figure(cords, family, figure)
     return figures_of(cords, family).index(figure)
 
 

@@ -2,7 +2,7 @@
 
 from hookedcords.checks import MOST_CORDS, is_between, need_cords, need_figure, need_two_figures
 from hookedcords.errors import BadCords
-from hookedcords.putting import merged, points_by_piece, renumbered
+from hookedcords.putting import joined_labels, points_by_piece, renumbered
 
 # The number of ways of parting 0, 1, .. 10 things: five cords have ten points.
 WAYS_OF_PARTING = (1, 1, 2, 5, 15, 52, 203, 877, 4140, 21147, 115975)
@@ -22,11 +22,7 @@ def both_of(cords, figure, other):
 def either_of(cords, figure, other):
     """The finest figure than which both are finer."""
     need_two_figures(cords, figure, other)
-    labels = list(figure)
-    for points in points_by_piece(other):
-        for point in points:
-            labels = merged(labels, labels[points[0]], labels[point])
-    return renumbered(labels)
+    return joined_labels(figure, other)
 
 
 def finer_count(cords, figure):

@@ -27,6 +27,20 @@ def points_by_piece(figure):
     return tuple([tuple(points) for points in pieces])
 
 
+def through_pieces(cords, figure):
+    """The ascending list of the numbers of the through pieces: those of top points that bottom points have, too."""
+    return [piece for piece in range(max(figure[:cords]) + 1) if piece in figure[cords:]]
+
+
+def joined_labels(labels, other):
+    """The labels by which just what hangs together by labels, or by the figure other, or by both, is one."""
+    joined = list(labels)
+    for points in points_by_piece(other):
+        for point in points:
+            joined = merged(joined, joined[points[0]], joined[point])
+    return renumbered(joined)
+
+
 def straight_figure(cords):
     """The figure of the row ()."""
     return tuple(range(cords)) + tuple(range(cords))

@@ -29,7 +29,12 @@ def family_size(cords, family):
     return SIZES[family][cords - 1]
 
 
+def need_at_most(cords, family, most):
+    """TooGreat(most) of a family with more figures than most."""
+    if family_size(cords, family) > most:
+        raise TooGreat(most)
+
+
 def need_few(cords, family):
     """TooGreat of a family with more figures than are gone through."""
-    if family_size(cords, family) > MOST_FIGURES:
-        raise TooGreat(MOST_FIGURES)
+    need_at_most(cords, family, MOST_FIGURES)

@@ -58,6 +58,18 @@ def row_to(before, figure):
     return tuple(row[::-1])
 
 
+def least_row_back(before, ends):
+    """The least tuple of the deeds that a walk did, the last one first, to one of the ends, which are equally far."""
+    row = []
+    steps = [step for end in ends for step in before[end]]
+    while steps:
+        least = min([deed for _, deed in steps])
+        nears = sorted({near for near, deed in steps if deed == least})
+        row.append(least)
+        steps = [step for near in nears for step in before[near]]
+    return tuple(row)
+
+
 def figures_in(cords, family):
     """The ascending list of the figures of a family that isn't too great."""
     before = walk(cords, family, straight_figure(cords))[1]

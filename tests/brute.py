@@ -1,5 +1,6 @@
 """The document's words worked out another way than in the package: by points, graphs and going through all."""
 
+import functools
 import itertools
 import random
 
@@ -29,6 +30,16 @@ def some_figures(cords, many, seed=7):
         kinds = source.randint(1, 2 * cords)
         found.append(by_labels([source.randrange(kinds) for _ in range(2 * cords)]))
     return found
+
+
+def many_figures():
+    """Pairs of a number of cords and a figure: all of up to three cords, drawn ones of four and five."""
+    for cords in (1, 2, 3):
+        for figure in all_figures(cords):
+            yield cords, figure
+    for cords in (4, 5):
+        for figure in some_figures(cords, 150):
+            yield cords, figure
 
 
 def some_rows(cords, many, most, seed=3, words=WORDS):
@@ -73,6 +84,7 @@ def figure_by_lots(outer, lots):
     return by_labels([next(at for at, lot in enumerate(lots) if node in lot) for node in outer])
 
 
+@functools.lru_cache(maxsize=200000)
 def put(cords, figure, other):
     """The pair of figure upon other and what is left over: a search over top, middle and bottom points."""
     places = range(cords)
@@ -87,6 +99,22 @@ def put(cords, figure, other):
     lots = components(top + middle + bottom, edges)
     left = sum(all(node[0] == "middle" for node in lot) for lot in lots)
     return figure_by_lots(top + bottom, lots), left
+
+
+def upon(cords, *figures):
+    whole = figures[0]
+    for figure in figures[1:]:
+        whole = put(cords, whole, figure)[0]
+    return whole
+
+
+def over(cords, figure):
+    return by_labels(figure[cords:] + figure[:cords])
+
+
+def through(cords, figure):
+    """The numbers of the through pieces, ascending."""
+    return sorted(set(figure[:cords]) & set(figure[cords:]))
 
 
 def deeds_of(cords, words=WORDS):
@@ -193,6 +221,19 @@ def closure(cords, family):
                     further.append(above)
         fresh = further
     return lengths
+
+
+@functools.lru_cache(maxsize=None)
+def figures_of(cords, family):
+    return tuple(sorted(closure(cords, family)))
+
+
+def small_families(most, least=0):
+    """Pairs of a number of cords and a family with at most so many figures, on up to three cords."""
+    for cords in (1, 2, 3):
+        for family in FAMILIES:
+            if least <= len(figures_of(cords, family)) <= most:
+                yield cords, family
 
 
 def rows_up_to(cords, family, most):

@@ -4,14 +4,20 @@ import importlib
 import itertools
 import unittest
 
+from hookedcords.books import need_book
+from hookedcords.colourings import lets, number_of_way
 from hookedcords.errors import (
-    BadCords, BadFamily, BadFigure, BadNumber, BadPaper, BadRow, HookError,
+    BadBook, BadColours, BadCords, BadFamily, BadFigure, BadNumber, BadPaper, BadRow, HookError,
 )
 from hookedcords.factors import check_on
 from hookedcords.families import family_deeds
 from hookedcords.figures import rank_of, straight
+from hookedcords.flatness import check_flattening
+from hookedcords.follow import check_follow
+from hookedcords.halves import need_half
 from hookedcords.least import Ladder
 from hookedcords.rows import figure_of
+from hookedcords.turns import check_turn_paper
 from tests.test_form import INTERFACE
 
 CALLS = [
@@ -27,14 +33,22 @@ METHODS = [
 GOOD = {
     "cords": 2, "figure": (0, 0, 1, 1), "other": (0, 0, 1, 1), "row": (("hook", 0),), "far_row": (), "point": 0,
     "far_point": 3, "place": 0, "far_place": 1, "parted": ((0, 1), (2, 3)), "far_cords": 1, "number": 0,
-    "deed": ("hook", 0), "family": ("hook",), "value": ("piece", 0), "paper": ("rows", (), ()),
+    "deed": ("hook", 0), "family": ("hook",), "value": ("piece", 0), "paper": ("steps", ()), "many": 3,
+    "half": ((0, 0), (0,)), "far_half": ((0, 1), (1,)), "meeting": (0,), "far_book": (), "lots": (0, 1),
+    "book": (((0, 1, 0, 1), (0, 0, 1, 1)),), "far_lots": (0, 0), "top": (1, 1), "bottom": (2, 2), "way": (),
 }
 TAKEN = {
     ("beside", "other"): (0, 1), ("halved", "figure"): (0, 0, 1, 1, 2, 2, 3, 3),
     ("holds_family", "other"): ("hook",), ("both_figures", "other"): ("hook",),
-    ("family_of_both", "other"): ("hook",),
+    ("family_of_both", "other"): ("hook",), ("check_on", "paper"): ("rows", (), ()),
+    ("check_flattening", "paper"): ((), (0, 0, 1, 1), ()),
 }
 OTHER_FAMILY = ("holds_family", "both_figures", "family_of_both")
+# Functions that ask whether each figure, whole, is one of the family.
+OF_FAMILY = [
+    name for module, names in INTERFACE.items() if module in ("factors", "classes", "partners", "turns", "books", "follow")
+    for name, parameters in names.items() if "family" in parameters
+]
 
 ANY = [None, "cut", [0, 0, 1, 1], {}, 3.5, b"ab", object()]
 CORDS = [0, 6, -1, True, False, "2", (2,), 10 ** 999] + ANY
@@ -55,6 +69,25 @@ FAMILIES = [(value, None) for value in ANY + [7, True, (), "hook", ["hook"]]] + 
     (("cut", "hook", "join", "swap", "swap"), 4), ((["hook"],), 0),
 ]
 PIECES = ANY + [7, (), ((0, 1), (2,)), ((0, 1), (2, 3), ()), ((0, True), (2, 3)), ((0, 1), [2, 3])]
+HALVES = [(value, "half") for value in ANY + [7, (), ((0, 0),), ((0, 0), (0,), ()), [(0, 0), (0,)]]] + [
+    ((None, ()), "pieces"), (([0, 0], ()), "pieces"), (((0,), ()), "pieces"), (((0, 0, 0), ()), "pieces"),
+    (((1, 0), ()), "pieces"), (((0, True), (0,)), "pieces"), (((0, 2), None), "pieces"), ((0, 0), "pieces"),
+    (((0, -1), ()), "pieces"), (((0, "1"), ()), "pieces"), (((0, 0), None), "open"), (((0, 0), [0]), "open"),
+    (((0, 0), (1,)), "open"), (((0, 1), (1, 0)), "open"), (((0, 1), (0, 0)), "open"), (((0, 1), (True,)), "open"),
+    (((0, 1), (False, 1)), "open"), (((0, 0), (-1,)), "open"), (((0, 0), 0), "open"), (((0, 1), ("0",)), "open"),
+]
+MEETINGS = ANY + [7, (), (1,), (True,), (False,), [0], (0, 1), (0, 0), ((0,),), ("0",), (None,), (-1,)]
+ONE = (0, 1, 0, 1)
+BOOKS = [(value, None) for value in ANY + [7, True, ((ONE, ONE),) * 7, (None,) * 7]] + [
+    ((None,), 0), (((ONE, ONE, ONE),), 0), (((ONE,),), 0), (((ONE, ONE), (ONE, (0, 0, 0, 0))), 1), (((ONE, None),), 0),
+    (([ONE, ONE],), 0), (((ONE, list(ONE)),), 0), ((ONE, ONE), 0), (((ONE, ONE), ((0, 1, 0, True), ONE)), 1),
+    (((ONE, ONE), (ONE, ONE), ((0, 1, 1, 0), ONE), None), 2), (((ONE, (0, 1)),), 0),
+]
+LOTS = ANY + [7, (), (0,), (0, 1, 2), (1, 0), (0, 2), (0, True), (False, 1), [0, 1], (0, -1), ("0", "1"), (0, None)]
+COLOURS = [(value, None) for value in ANY + [7, True, (), (0,), (0, 0, 0), "00", [0, 0]]] + [
+    ((3, 0), 0), ((0, 3), 1), ((True, 0), 0), ((0, False), 1), ((-1, 3), 0), ((0, None), 1), (("0", 0), 0),
+    ((0, 10 ** 999), 1), ((0, (0,)), 1), ((None, None), 0),
+]
 DEEDS = ANY + [7, ("hook", 1), ("hook", True), ["hook", 0], ("hook",), (("hook", 0),), ("Hook", 0), ("cut", 2)]
 
 
@@ -75,6 +108,9 @@ def wrong_values(name, parameter):
             return [(value, (BadFamily, number)) for value, number in FAMILIES]
         if name == "halved":
             return [(value, (BadFigure, place)) for value, place in FIGURES[:12] + [((0, 0, 1, 1, 2, 2, 3, True), 7)]]
+        if name in OF_FAMILY:
+            others = [((0, 0, 0, 0), "family"), ((0, 1, 1, 0), "family")]
+            return [(value, (BadFigure, place)) for value, place in FIGURES + others]
         return [(value, (BadFigure, place)) for value, place in FIGURES]
     if parameter in ("row", "far_row"):
         return [(value, (BadRow, number)) for value, number in ROWS]
@@ -83,7 +119,10 @@ def wrong_values(name, parameter):
     if parameter in ("point", "far_point", "place", "far_place"):
         return [(value, (BadNumber, value)) for value in numbers(4)]
     if parameter == "number":
-        beyond = {"figures_of_rank": 3, "fewest_leaving": 13, "row_leaving": 13}.get(name, 2)
+        beyond = {
+            "figures_of_rank": 3, "fewest_leaving": 13, "row_leaving": 13, "all_halves": 3, "half_count": 3,
+            "flat_halves": 3, "flat_half_count": 3, "rank_lots": 4, "pair_numbered": 9, "inner_way": 1,
+        }.get(name, 2)
         values = numbers(beyond)
         if name == "of_length":
             values = [value for value in values if type(value) is not int or value < 0]
@@ -92,6 +131,30 @@ def wrong_values(name, parameter):
         return [(value, (BadNumber, value)) for value in DEEDS]
     if parameter == "parted":
         return [(value, (BadFigure, "pieces")) for value in PIECES]
+    if parameter == "many":
+        beyond = {
+            "power": 10 ** 9 + 1, "power_leftovers": 10 ** 9 + 1, "power_rings": 10 ** 9 + 1, "roots_in": 31,
+        }.get(name, 10 ** 6 + 1)
+        values = numbers(beyond) + ([] if beyond > 10 ** 9 else [0])
+        return [(value, (BadNumber, value)) for value in values]
+    if parameter in ("half", "far_half"):
+        return [(value, (BadFigure, place)) for value, place in HALVES]
+    if parameter == "meeting":
+        return [(value, (BadNumber, value)) for value in MEETINGS]
+    if parameter in ("book", "far_book"):
+        return [(value, (BadBook, number)) for value, number in BOOKS]
+    if parameter in ("lots", "far_lots"):
+        return [(value, (BadNumber, value)) for value in LOTS]
+    if parameter in ("top", "bottom"):
+        return [(value, (BadColours, number)) for value, number in COLOURS]
+    if parameter == "way":
+        return [(value, (BadColours, "way")) for value in ANY + [7, True, ((0, 0),), [], 0, "", ((),)]]
+    if parameter == "paper" and name == "check_flattening":
+        values = ANY + [7, (), ((), (0, 0, 1, 1)), [(), (0, 0, 1, 1), ()], ((), (0, 0, 1, 1), (), ())]
+        return [(value, (BadPaper, "form")) for value in values]
+    if parameter == "paper" and name != "check_on":
+        values = ANY + [7, True, (), ("steps",), ("steps", (), ()), ["steps", ()], ("Steps", ()), (("steps",), ())]
+        return [(value, (BadPaper, "form")) for value in values + [(None, ()), ("", ()), ("rows", ()), "steps"]]
     if parameter == "paper":
         return [(value, (BadPaper, "form")) for value in ANY + [(), ("rows",), ("rows", ()), ["rows", (), ()], 7]]
     return []
@@ -155,6 +218,17 @@ class Arguments(unittest.TestCase):
             (check_on, (1, ("cut",), (0, 0), (0, 0), (one, (), ())), (BadPaper, "form")),
             (check_on, (1, ("cut",), (0, 0), (0, 0), ("rows", (one,), ())), (BadPaper, "rows")),
             (check_on, (1, ("cut",), (0, 0), (0, 1), ("closed", (one,))), (BadPaper, "closed")),
+            (check_turn_paper, (1, ("cut",), (0, 0), (0, 0), (one, ())), (BadPaper, "form")),
+            (check_turn_paper, (1, ("cut",), (0, 0), (0, 0), ("steps", (one,))), (BadPaper, "steps")),
+            (check_turn_paper, (1, ("cut",), (0, 0), (0, 1), ("closed", (one,))), (BadPaper, "closed")),
+            (check_follow, (1, ("cut",), (), (0, 0), (0, 0), (one, ())), (BadPaper, "form")),
+            (check_follow, (1, ("cut",), (), (0, 0), (0, 0), ("steps", (one,))), (BadPaper, "form")),
+            (check_follow, (1, ("cut",), (), (0, 0), (0, 1), ("lots", (0, one))), (BadPaper, "form")),
+            (check_flattening, (1, (0, 0), (one, one, one)), (BadPaper, "row")),
+            (need_half, (1, (one, one)), (BadFigure, "pieces")), (need_half, (1, ((0,), (one,))), (BadFigure, "open")),
+            (need_book, (1, ("cut",), (one,)), (BadBook, 0)), (need_book, (1, ("cut",), one), (BadBook, None)),
+            (lets, (1, (0, 0), 2, (one,), (0,)), (BadColours, 0)),
+            (number_of_way, (1, (("cut", 0),) * 2, 2, (0,), (0,), ((one,),)), (BadColours, "way")),
         ]
         for call, values, expected in calls:
             self.check_refused(call, list(values), expected)

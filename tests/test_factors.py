@@ -9,26 +9,11 @@ from hookedcords.factors import (
     on_paper, row_down, row_up, rows_on,
 )
 from tests import brute
-from tests.brute import told_of
+from tests.brute import figures_of, over, told_of, upon
 
 STRAIGHT = (0, 1, 2, 3, 4) * 2
 CROSSED = (0, 1, 2, 3, 4, 1, 0, 2, 3, 4)
 WITH_TWO = (leads_down, leads_up, leads_on, row_down, row_up, how_many_down, how_many_up, rows_on, on_paper)
-
-
-def figures_of(cords, family):
-    return sorted(brute.closure(cords, family))
-
-
-def upon(cords, *figures):
-    whole = figures[0]
-    for figure in figures[1:]:
-        whole = brute.put(cords, whole, figure)[0]
-    return whole
-
-
-def over(cords, figure):
-    return brute.by_labels(figure[cords:] + figure[:cords])
 
 
 def some_families():

@@ -9,12 +9,12 @@ import unittest
 
 HERE = os.path.dirname(os.path.dirname(os.path.abspath(__file__)))
 PACKAGE = os.path.join(HERE, "hookedcords")
-LIBRARY = {"itertools": {"combinations"}}
+LIBRARY = {"itertools": {"combinations"}, "math": {"factorial"}}
 BUILTINS = set(
     "len range enumerate zip min max sum abs sorted reversed int str bool list tuple dict set isinstance any all "
     "divmod type ValueError".split()
 )
-METHODS = set("append extend pop add setdefault items get index count".split())
+METHODS = set("append extend pop add setdefault items values get index count".split())
 
 INTERFACE = {
     "errors": {},
@@ -71,6 +71,66 @@ INTERFACE = {
         "factor_down": "cords family figure other number", "factor_up": "cords family figure other number",
         "rows_on": "cords family figure other", "on_paper": "cords family figure other",
         "check_on": "cords family figure other paper",
+    },
+    "classes": {
+        "top_lot": "cords family figure", "bottom_lot": "cords family figure", "box_of": "cords family figure",
+        "cell_of": "cords family figure", "crowns_of": "cords family", "boxes": "cords family",
+        "boxes_below": "cords family", "box_table": "cords family figure", "is_turning": "cords family figure",
+        "still_of": "cords family figure",
+    },
+    "powers": {
+        "power": "cords figure many", "power_leftovers": "cords figure many", "comes_round": "cords figure",
+        "powers_of": "cords figure", "does_stay": "cords figure", "staying_power": "cords figure",
+        "exchange_within": "cords figure", "ranks_of": "cords figure",
+    },
+    "partners": {
+        "is_partner": "cords figure other", "undoer": "cords figure", "partners_in": "cords family figure",
+        "first_partner": "cords family figure", "staying_in": "cords family",
+        "roots_in": "cords family figure many", "roundest_in": "cords family",
+    },
+    "halves": {
+        "need_half": "cords half", "upper_half": "cords figure", "lower_half": "cords figure",
+        "meeting_of": "cords figure", "figure_of_halves": "cords half meeting far_half",
+        "hung": "cords half far_half", "half_mirrored": "cords half", "all_halves": "cords number",
+        "half_count": "cords number", "figures_by_rank": "cords",
+    },
+    "flatness": {
+        "is_flat": "cords figure", "crossing_pairs": "cords figure", "is_flat_half": "cords half",
+        "flat_halves": "cords number", "flat_half_count": "cords number", "flat_by_rank": "cords",
+        "exchanges_of": "cords figure", "flattening": "cords figure", "check_flattening": "cords figure paper",
+        "by_exchanges": "cords", "most_crooked": "cords",
+    },
+    "closed": {
+        "rings": "cords figure", "ring_pieces": "cords figure", "row_rings": "cords row",
+        "rings_of_both": "cords figure other", "power_rings": "cords figure many", "ring_count": "cords family",
+        "heaviest_in": "cords family",
+    },
+    "turns": {
+        "turn_halves": "cords family figure other", "is_turn": "cords family figure other",
+        "turn_lots": "cords family", "are_of_one_lot": "cords family figure other", "lot_rounds": "cords family",
+        "turn_paper": "cords family figure other", "check_turn_paper": "cords family figure other paper",
+    },
+    "books": {
+        "need_book": "cords family book", "lots_of": "cords family book", "lot_count": "cords family book",
+        "lot_of": "cords family book figure", "least_figure": "cords family book figure",
+        "does_follow": "cords family book figure other", "rows_follow": "cords family book row far_row",
+        "lot_table": "cords family book", "says": "cords family book far_book",
+        "unsaid_pairs": "cords family book far_book", "spare_pairs": "cords family book",
+        "least_part": "cords family book",
+    },
+    "follow": {
+        "follow_paper": "cords family book figure other", "check_follow": "cords family book figure other paper",
+        "does_go_well": "cords family lots", "joined_lots": "cords family lots far_lots",
+        "common_lots": "cords family lots far_lots", "rank_lots": "cords family number",
+        "pair_partings": "cords family", "all_partings": "cords family",
+    },
+    "colourings": {
+        "lets": "cords figure many top bottom", "lets_just_so": "cords figure many top bottom",
+        "pairs_let": "cords figure many", "pairs_just_so": "cords figure many",
+        "bottoms_for": "cords figure many top", "least_bottom": "cords figure many top",
+        "pair_numbered": "cords figure many number", "number_of_pair": "cords figure many top bottom",
+        "ways": "cords row many top bottom", "inner_way": "cords row many top bottom number",
+        "number_of_way": "cords row many top bottom way", "first_apart": "cords row far_row many",
     },
 }
 
