@@ -24,6 +24,12 @@ def need_number(value, least, most):
         raise BadNumber(value)
 
 
+def need_from(value, least):
+    """BadNumber(value) of what is no integer from least on."""
+    if not is_from(value, least):
+        raise BadNumber(value)
+
+
 def need_cords(cords):
     """BadCords(cords) of what is no number of cords."""
     if not is_between(cords, 1, MOST_CORDS):

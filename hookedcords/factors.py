@@ -1,6 +1,6 @@
 """Division: which figure of a family leads to which, by what is put above and below."""
 
-from hookedcords.checks import is_deed, is_figure, is_from, need_cords, need_figure
+from hookedcords.checks import is_deed, is_figure, need_cords, need_figure, need_from
 from hookedcords.errors import BadNumber, BadPaper
 from hookedcords.faults import need_with_own_figures
 from hookedcords.putting import figure_of_row, put_upon, turned_figure
@@ -126,12 +126,6 @@ def how_many_up(cords, family, figure, other):
     return len(factors_up(cords, family, figure, other))
 
 
-def need_from_nought(number):
-    """BadNumber of what is no integer from 0 on."""
-    if not is_from(number, 0):
-        raise BadNumber(number)
-
-
 def one_at(found, number):
     """The thing with this number; BadNumber if there are fewer."""
     if number >= len(found):
@@ -142,7 +136,7 @@ def one_at(found, number):
 def factor_down(cords, family, figure, other, number):
     """Of the figures of the family upon which the figure is the other one that with this number."""
     need_with_own_figures(cords, family, figure, other)
-    need_from_nought(number)
+    need_from(number, 0)
     need_few(cords, family)
     return one_at(factors_down(cords, family, figure, other), number)
 
@@ -150,7 +144,7 @@ def factor_down(cords, family, figure, other, number):
 def factor_up(cords, family, figure, other, number):
     """Of the figures of the family which, put upon the figure, are the other one that with this number."""
     need_with_own_figures(cords, family, figure, other)
-    need_from_nought(number)
+    need_from(number, 0)
     need_few(cords, family)
     return one_at(factors_up(cords, family, figure, other), number)
 

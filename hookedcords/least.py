@@ -1,9 +1,9 @@
 """Fewest deeds: lengths of figures, their shortest rows, and how far it is between figures."""
 
 from hookedcords.checks import (
-    is_from, need_cords, need_family, need_family_figure, need_family_row, need_figure, need_number,
+    need_cords, need_family, need_family_figure, need_family_row, need_figure, need_from, need_number,
 )
-from hookedcords.errors import BadFigure, BadNumber
+from hookedcords.errors import BadFigure
 from hookedcords.faults import need_with_own_figure
 from hookedcords.putting import figure_of_row, put_upon, straight_figure
 from hookedcords.sizes import need_few
@@ -105,8 +105,7 @@ class Ladder:
 
     def of_length(self, number):
         """The ascending tuple of the figures of this length."""
-        if not is_from(number, 0):
-            raise BadNumber(number)
+        need_from(number, 0)
         if number >= len(self._layers):
             return ()
         return tuple(sorted(self._layers[number]))

@@ -61,6 +61,13 @@ def put_together(cords, figure, other):
     return renumbered(labels), len(set(lots)) - len(set(labels))
 
 
+def put_once(cords, known, figure, other):
+    """The pair of figure upon other and the number of pieces left over; known, a dict, keeps it."""
+    if (figure, other) not in known:
+        known[(figure, other)] = put_together(cords, figure, other)
+    return known[(figure, other)]
+
+
 def put_upon(cords, figure, other):
     """The figure upon the other one."""
     return put_together(cords, figure, other)[0]

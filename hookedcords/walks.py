@@ -25,19 +25,20 @@ def next_layer(cords, shapes, layer, before):
     return further
 
 
-def walk(cords, words, start):
+def walk(cords, words, start, end=None):
     """The pair (LAYERS, BEFORE) of all figures that deeds with these words put below start bring.
 
     LAYERS: a list of the lists of the figures 0, 1, 2 and so on deeds away, in the order of their
     least rows. BEFORE: a dict with the list of the last steps of the shortest rows to each figure,
     the step of the least row first; a step is a pair of the figure ahead and the deed.
+    Where an end is told the walk goes no further than to it, and LAYERS lacks the layer of the end.
     TooGreat if there are too many figures.
     """
     shapes = shapes_of(cords, words)
     before = {start: []}
     layers = []
     layer = [start]
-    while layer:
+    while layer and end not in before:
         layers.append(layer)
         further = next_layer(cords, shapes, layer, before)
         for figure, steps in further.items():

@@ -249,3 +249,67 @@ def told_of(call, *values):
         return call(*values)
     except ValueError as error:
         return type(error), tuple(vars(error).values())
+
+
+def fillings(cords, gapped):
+    """All fillings of a row with gaps, ascending."""
+    return list(itertools.product(*[deeds_of(cords) if item is None else item for item in gapped]))
+
+
+def figures_on_way(cords, row):
+    """The figures of the first 0, 1 and so on deeds of a row."""
+    found = [tuple(range(cords)) * 2]
+    for deed in row:
+        found.append(put(cords, found[-1], deed_figure(cords, deed))[0])
+    return found
+
+
+def does_show(cords, row, sight):
+    """Whether a row shows a sight."""
+    step, point, far_point, is_one = sight
+    figure = figures_on_way(cords, row)[step]
+    return (figure[point] == figure[far_point]) is is_one
+
+
+def bearing(cords, gapped, seen):
+    """All fillings that bear what is seen, ascending."""
+    return [row for row in fillings(cords, gapped) if all(does_show(cords, row, sight) for sight in seen)]
+
+
+def all_questions(cords, gapped):
+    points = itertools.combinations(range(2 * cords), 2)
+    return [(step, *pair) for step, pair in itertools.product(range(len(gapped) + 1), points)]
+
+
+def drawn_gapped(source, cords, most=4, least=0):
+    """A drawn row with gaps: with LOTS of one deed, of some, of all, and with None."""
+    deeds = deeds_of(cords)
+    items = []
+    for _ in range(source.randint(least, most)):
+        many = source.choice((1, 1, 2, 2, 3, len(deeds)))
+        items.append(source.choice((None, tuple(sorted(source.sample(deeds, min(many, len(deeds))))))))
+        if source.random() < 0.6:
+            items[-1] = tuple(sorted(source.sample(deeds, min(many, len(deeds)))))
+    return tuple(items)
+
+
+def drawn_seen(source, cords, gapped, most=4):
+    """Drawn SIGHTS: mostly such as one filling shows, at times such as speak against one another."""
+    row = source.choice(fillings(cords, gapped))
+    seen = []
+    for _ in range(source.randint(0, most)):
+        sight = source.choice(all_questions(cords, gapped)) + (True,)
+        truth = does_show(cords, row, sight)
+        seen.append(sight[:3] + (truth if source.random() < 0.85 else not truth,))
+    return tuple(seen)
+
+
+def drawn_sightings(many, seed, cords=(1, 2, 2, 3), most=4):
+    """Triples of a number of cords, a row with gaps and what is seen."""
+    source = random.Random(seed)
+    found = [(1, (), ()), (2, (), ((0, 0, 2, True),)), (2, (), ((0, 0, 1, True),)), (1, (None,) * 3, ())]
+    for _ in range(many):
+        one = source.choice(cords)
+        gapped = drawn_gapped(source, one, most)
+        found.append((one, gapped, drawn_seen(source, one, gapped)))
+    return found
