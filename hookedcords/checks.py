@@ -90,6 +90,11 @@ def is_tuple_of_at_most(value, most):
     return type(value) is tuple and len(value) <= most
 
 
+def is_ascending(things):
+    """Whether each of the things, which can be compared, is greater than the one ahead."""
+    return all([near < far for near, far in zip(things, things[1:])])
+
+
 def need_row(cords, row):
     """BadRow of what is no row."""
     if not is_tuple_of_at_most(row, MOST_DEEDS):

@@ -1,6 +1,6 @@
 """Rows with gaps, what is seen of them, and the questions that may be asked of their fillings."""
 
-from hookedcords.checks import WORDS, is_between, is_deed, is_tuple_of_at_most, need_cords
+from hookedcords.checks import WORDS, is_ascending, is_between, is_deed, is_tuple_of_at_most, need_cords
 from hookedcords.errors import BadBook, BadRow, BadSeen
 from hookedcords.putting import deeds_with
 
@@ -13,12 +13,7 @@ def is_lot(cords, value):
     """Whether value, of any kind, is an ascending tuple of at least one deed."""
     if type(value) is not tuple or len(value) == 0:
         return False
-    ahead = ()
-    for deed in value:
-        if not is_deed(cords, deed) or deed <= ahead:
-            return False
-        ahead = deed
-    return True
+    return all([is_deed(cords, deed) for deed in value]) and is_ascending(value)
 
 
 def need_gapped_told(cords, gapped):

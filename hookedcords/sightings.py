@@ -1,6 +1,6 @@
 """Papers on whether some filling of a row with gaps bears what is seen."""
 
-from hookedcords.checks import is_figure, is_row, is_tuple_of_at_most
+from hookedcords.checks import is_ascending, is_figure, is_row, is_tuple_of_at_most
 from hookedcords.courses import MOST_STATES, filling_of_number
 from hookedcords.errors import BadPaper
 from hookedcords.putting import figure_of_deed, put_upon, straight_figure
@@ -20,12 +20,7 @@ def is_layer(cords, value):
     """Whether value, of any kind, is an ascending tuple of at most 2,000 figures."""
     if not is_tuple_of_at_most(value, MOST_STATES):
         return False
-    ahead = ()
-    for figure in value:
-        if not is_figure(cords, figure) or figure <= ahead:
-            return False
-        ahead = figure
-    return True
+    return all([is_figure(cords, figure) for figure in value]) and is_ascending(value)
 
 
 def are_layers(cords, length, value):
