@@ -48,7 +48,8 @@ class Course:
         for figure, _ in self.layers[-1]:
             if figure not in below:
                 below[figure] = [(deed,) + put_once(self.cords, self._known, figure, one) for deed, one in shapes]
-        looks = self._looks_at({figure: True for found in below.values() for _, figure, _ in found}, len(self.layers))
+        figures = {one[1]: True for found in below.values() for one in found}
+        looks = self._looks_at(figures, len(self.layers))
         steps = {}
         behind = {}
         for state in self.layers[-1]:

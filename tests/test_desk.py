@@ -279,7 +279,7 @@ class Desks(unittest.TestCase):
         before, guide = stands(desk.weave), desk.guide
         for line in ["", " ", "H0 ", " H0", "H0  C1", "H1", "C2", "h0", "- -", "above", "above ", "above H1", "above - -",
                      "turn ", "turn 1", "row ", "row 1", "figure 1", "leftovers 1", "hang", "hang t0", "hang t0 t2",
-                     "hang t0 b0 b1", "hang t0  b0", "hang T0 b0", "mark", "mark A", "mark abcdefghi", "mark a b", "mark ",
+                     "hang t0 b0 b1", "hang t0 t1 t0", "hang t0 t0 ", "hang t0  b0", "hang T0 b0", "mark", "mark A", "mark abcdefghi", "mark a b", "mark ",
                      "alike", "alike b", "alike abcdefghi", "alike a ", "family", "family hook cut", "family cut cut",
                      "family ", "goal", "goal t0", "goal t1", "goal t0 t1 / b0 / b1 /", "goal t0 b0", "left ", "left 1",
                      "due due", "go 1", "stop ", "stop stop", "weave", "weave 7", "weave two", "H0\n", "row\nrow", "done",
